@@ -679,6 +679,20 @@ func TestCompact(t *testing.T) {
 	}
 }
 
+// P9.1: what is in memory doesn't come into a table by Compact.
+func TestCompactLeavesMemory(t *testing.T) {
+	s := newStore(t)
+	for range 2 {
+		s.write(is("a", "1"))
+		s.flush()
+	}
+	s.write(is("a", long(3000)))
+	s.compact()
+	s.isSame("a")
+	isShape(t, s.d, 1, 1)
+	s.isSmall("a value in memory", 3300)
+}
+
 // P9.1: where everything is gone, several tables still become one.
 func TestCompactOfGone(t *testing.T) {
 	for tables := 1; tables < 4; tables++ {
